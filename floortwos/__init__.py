@@ -1,0 +1,1 @@
+"""Floortwos: floors laid with tiles of two cells."""
