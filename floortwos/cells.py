@@ -32,6 +32,14 @@ def tile_of(one, other):
     return (min(one, other), max(one, other))
 
 
+def is_tile(thing):
+    """Whether the thing, of any kind, is a tile."""
+    if not (isinstance(thing, tuple) and len(thing) == 2 and is_cell(thing[0]) and is_cell(thing[1])):
+        return False
+    one, other = thing
+    return one < other and other in beside(one)
+
+
 def is_level(tile):
     """Whether both cells of the tile have one row; else it is upright."""
     one, other = tile

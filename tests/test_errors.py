@@ -1,11 +1,7 @@
 import unittest
 
 from floortwos import errors
-
-NAMES = [
-    "NoFloor", "NoTile", "NoLaying", "NoTurn", "NoText", "TooWide",
-    "Holed", "NoHeights", "NotAlike", "NoNumber", "NoTable",
-]
+from helpers import NAMES
 
 
 def bare(name):

@@ -3,13 +3,7 @@ import unittest
 
 from floortwos.errors import NoFloor
 from floortwos.floors import corners_of, gathered, is_inner, sides_of
-
-FAR = 10 ** 60 - 100
-
-
-def block(rows, columns, down=0, right=0):
-    return [(row + down, column + right) for row in range(rows) for column in range(columns)]
-
+from helpers import FAR, block, subsets
 
 RING = [cell for cell in block(3, 3) if cell != (1, 1)]
 STRANGE = [
@@ -20,10 +14,7 @@ STRANGE = [
 
 def small_floors():
     """All floors within three rows and three columns, around (0, 0)."""
-    cells = block(3, 3, -1, -1)
-    for many in range(len(cells) + 1):
-        for chosen in itertools.combinations(cells, many):
-            yield list(chosen)
+    return subsets(block(3, 3, -1, -1))
 
 
 def borders(cell):

@@ -1,23 +1,12 @@
-import itertools
 import unittest
 
 from floortwos.floors import holes_in, parts_of
-
-FAR = 10 ** 60 - 100
-
-
-def drawn(picture, down=0, right=0):
-    """The floor of the # in a picture, moved."""
-    rows = picture.split()
-    return [(at + down, to + right) for at, row in enumerate(rows) for to, sign in enumerate(row) if sign == "#"]
+from helpers import FAR, block, drawn, subsets
 
 
 def small_floors():
     """All floors within three rows and four columns, around (0, 0)."""
-    cells = [(row, column) for row in range(-1, 2) for column in range(-2, 2)]
-    for many in range(len(cells) + 1):
-        for chosen in itertools.combinations(cells, many):
-            yield list(chosen)
+    return subsets(block(3, 4, -1, -2))
 
 
 def hang(one, other):
