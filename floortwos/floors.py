@@ -1,7 +1,7 @@
 """Floors, their corners and sides, the parts that they fall into, and their holes."""
 
 from floortwos.cells import is_cell
-from floortwos.errors import NoFloor
+from floortwos.errors import Holed, NoFloor
 
 MOST_CELLS = 64
 
@@ -96,3 +96,9 @@ def parts_of(floor):
 def holes_in(floor):
     """How many holes the floor has."""
     return len(parts_of(floor)) - len(corners_of(floor)) + len(sides_of(floor)) - len(floor)
+
+
+def check_no_holes(floor):
+    """Refuses a floor with holes."""
+    if holes_in(floor) != 0:
+        raise Holed("the floor has holes")

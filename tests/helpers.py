@@ -87,6 +87,30 @@ EVEN_BUT_SHORT = [
 # A block with a dark cell too many, joined to the rest by a light one, which is of no use to it.
 JOINED = sorted(block(7, 7) + [(1, 7)] + [cell for cell in block(3, 5, 1, 8) if cell != (3, 11)])
 
+# Layings of floors with holes: round one cell, round a cell of a broad floor of 64, touching by corners alone, a thin
+# ring of 64 cells, and a ring round a part of its own.
+CORNERED = [level(0, 1), upright(1, 0), upright(1, 3), level(3, 1)]
+BROAD = (
+    [level(row, column) for row in (0, 1) for column in range(0, 12, 2)]
+    + [level(2, column) for column in (0, 2, 4, 7, 9, 11)]
+    + [level(row, column) for row in (3, 4) for column in range(0, 12, 2)]
+    + [upright(0, 12), upright(3, 12)]
+)
+THIN = (
+    [level(0, column) for column in range(0, 16, 2)] + [upright(row, 0) for row in range(1, 17, 2)]
+    + [upright(row, 16) for row in range(0, 16, 2)] + [level(16, column) for column in range(1, 17, 2)]
+)
+ROUND = (
+    [level(0, column) for column in (0, 2, 4)] + [upright(row, 0) for row in (1, 3, 5)]
+    + [upright(row, 6) for row in (0, 2, 4)] + [level(6, column) for column in (1, 3, 5)] + [level(3, 3)]
+)
+HOLED_LAYINGS = [WHEEL, sorted(BROAD), CORNERED, sorted(THIN), sorted(ROUND)]
+
+
+def cells_of(tiles):
+    """The sorted cells of all the tiles."""
+    return sorted([cell for tile in tiles for cell in tile])
+
 
 def steps_apart(one, other):
     return abs(one[0] - other[0]) + abs(one[1] - other[1])
@@ -114,7 +138,7 @@ def covers(floor, tiles):
             return False
         if steps_apart(tile[0], tile[1]) != 1 or not tile[0] < tile[1]:
             return False
-    return sorted([cell for tile in tiles for cell in tile]) == floor
+    return cells_of(tiles) == floor
 
 
 def is_short(floor, cells, parted=None):
@@ -128,6 +152,22 @@ def is_short(floor, cells, parted=None):
         if any(steps_apart(cell, other) == 1 and tuple(sorted([cell, other])) != parted for cell in cells)
     ]
     return len(near) < len(cells)
+
+
+def rule_rise(tiles, one, other):
+    """What the rule of point 15 tells for a step from the one corner to the other."""
+    even = (one[0] + one[1]) % 2 == 0
+    row, column = min(one, other)
+    if one[0] != other[0]:
+        rise, tile = 1 if even else -1, level(row, column - 1)
+    else:
+        rise, tile = -1 if even else 1, upright(row - 1, column)
+    return rise if tile not in tiles else {1: -3, -1: 3}[rise]
+
+
+def in_steps(corners):
+    """The steps from each corner to the next one, and from the last one to the first."""
+    return list(zip(corners, corners[1:] + corners[:1]))
 
 
 def laid_at_random(chance, many):
