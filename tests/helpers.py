@@ -165,6 +165,16 @@ def rule_rise(tiles, one, other):
     return rise if tile not in tiles else {1: -3, -1: 3}[rise]
 
 
+def greatest_rise(floor, one, other):
+    """The greatest rise of a side of the floor, by what the rule tells with a tile across and without."""
+    row, column = min(one, other)
+    tile = level(row, column - 1) if one[0] != other[0] else upright(row - 1, column)
+    plain = rule_rise([], one, other)
+    if tile[0] in floor and tile[1] in floor:
+        return max(plain, rule_rise([tile], one, other))
+    return plain
+
+
 def in_steps(corners):
     """The steps from each corner to the next one, and from the last one to the first."""
     return list(zip(corners, corners[1:] + corners[:1]))
@@ -180,6 +190,12 @@ def laid_at_random(chance, many):
         if not any(cell in cells for cell in tile):
             cells.extend(tile)
     return sorted(cells)
+
+
+def is_wide(floor):
+    """Whether the floor is too wide to be counted."""
+    columns = [column for row, column in floor]
+    return columns != [] and max(columns) - min(columns) > 7
 
 
 class Refusing:

@@ -7,22 +7,12 @@ from floortwos.lay import lay_floor
 from floortwos.layings import turns_of
 from floortwos.peaks import highest, lowest
 from helpers import (
-    EVEN_BUT_SHORT, FAR, HOLED_LAYINGS, JOINED, RING, Refusing, all_layings, block, cells_of, covers, drawn, in_steps,
-    laid_at_random, level, moved, rule_rise, subsets, upright,
+    EVEN_BUT_SHORT, FAR, HOLED_LAYINGS, JOINED, RING, Refusing, all_layings, block, cells_of, covers, drawn,
+    greatest_rise, in_steps, laid_at_random, level, moved, subsets, upright,
 )
 
 # It has a laying of level tiles alone and one of upright tiles alone.
 AZTEC = drawn("...##... ..####.. .######. ######## ######## .######. ..####.. ...##...")
-
-
-def greatest(floor, one, other):
-    """The greatest rise of a side of the floor, by what the rule tells with a tile across and without."""
-    row, column = min(one, other)
-    tile = level(row, column - 1) if one[0] != other[0] else upright(row - 1, column)
-    plain = rule_rise([], one, other)
-    if tile[0] in floor and tile[1] in floor:
-        return max(plain, rule_rise([tile], one, other))
-    return plain
 
 
 def less_one(chance, floor, colour):
@@ -41,7 +31,7 @@ class Peaks(Refusing, unittest.TestCase):
         sides = sides_of(floor)
         for one, other in in_steps(corners):
             self.assertIn(tuple(sorted([one, other])), sides)
-        self.assertLess(sum([greatest(floor, one, other) for one, other in in_steps(corners)]), 0)
+        self.assertLess(sum([greatest_rise(floor, one, other) for one, other in in_steps(corners)]), 0)
 
     def look_at_laid(self, floor, high, low):
         self.assertTrue(covers(floor, high) and covers(floor, low), (floor, high, low))
